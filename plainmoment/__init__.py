@@ -1,0 +1,1 @@
+"""Plainmoment: a debugger of small programs, each stop of which is a moment of one plain run."""

@@ -1,0 +1,209 @@
+"""What several tests need: odd values, programs, and an own plain reckoning to compare with."""
+
+import random
+
+from plainmoment.programs import Program
+
+NAMES = ("a", "b", "x", "yy", "zed", "long")
+
+
+class Odd:
+    """A value that refuses to be compared, hashed, counted or gone through."""
+
+    __hash__ = None
+
+    def __eq__(self, other):
+        raise AssertionError("compared")
+
+    def __len__(self):
+        raise AssertionError("counted")
+
+    def __iter__(self):
+        raise AssertionError("gone through")
+
+    def __bool__(self):
+        raise AssertionError("taken for a truth")
+
+
+def odd_values():
+    """Values that are nothing of this package; each call makes new ones."""
+    return [None, True, False, -1, 10 ** 60, 1.0, 0.0, 2j, "", "X", "abcde", "a b", "\u00e9", b"x", [], {}, (),
+            [1], {"a": 1}, {1}, (1,), ("a",), (True,), ((),), ([],), ({},), Odd(), (Odd(),), (Odd(), Odd()),
+            (Odd(), Odd(), Odd()), [Odd()], object(), object, len]
+
+
+def plain(rows, name="main"):
+    """The program of one procedure with these rows."""
+    return Program([(name, (), tuple(rows))])
+
+
+COUNTDOWN = Program([
+    ("main", (), (
+        ("get", "n"),
+        ("copy", "s", 0),
+        ("if", "n", 4),
+        ("back", "s"),
+        ("set", "s", "add", "s", "n"),
+        ("set", "n", "sub", "n", 1),
+        ("go", 2),
+    )),
+])
+
+CALLER = Program([
+    ("main", (), (
+        ("get", "x"),
+        ("call", "y", "dbl", ("x",)),
+        ("out", "y"),
+        ("call", "z", "sum", ("x", 3)),
+        ("back", "z"),
+    )),
+    ("dbl", ("p",), (
+        ("set", "p", "add", "p", "p"),
+        ("back", "p"),
+    )),
+    ("sum", ("p", "q"), (
+        ("if", "q", 2),
+        ("back", "p"),
+        ("set", "p", "add", "p", 1),
+        ("set", "q", "sub", "q", 1),
+        ("call", "r", "sum", ("p", "q")),
+        ("back", "r"),
+    )),
+])
+
+DEEP = Program([
+    ("main", (), (("get", "n"), ("call", "x", "f", ("n",)), ("back", "x"))),
+    ("f", ("n",), (
+        ("if", "n", 2),
+        ("back", 7),
+        ("set", "m", "sub", "n", 1),
+        ("call", "x", "f", ("m",)),
+        ("back", "x"),
+    )),
+])
+
+
+def reckon(op, one, other):
+    """An op, reckoned anew."""
+    made = {"add": one + other, "sub": one - other, "mul": one * other, "less": int(one < other)}
+    return made[op] % 9973
+
+
+class Machine:
+    """An own plain doing of a program, by dicts that are changed in place."""
+
+    def __init__(self, procedures, inputs):
+        self.rows = {name: rows for name, _, rows in procedures}
+        self.parameters = {name: parameters for name, parameters, _ in procedures}
+        self.inputs = list(inputs)
+        self.frames = [[0, procedures[0][0], 0, {}]]
+        self.moment = self.asked = 0
+        self.outputs = []
+        self.result = None
+
+    def shown(self):
+        """The state as the document tells it."""
+        frames = []
+        for born, name, index, values in self.frames:
+            pairs = tuple(sorted((variable, value) for variable, value in values.items() if value))
+            frames.append((born, name, index, pairs))
+        return (self.moment, tuple(frames), self.asked, tuple(self.outputs), self.result)
+
+    def change(self, born, variable, value):
+        for frame in self.frames:
+            if frame[0] == born:
+                frame[3][variable] = value
+
+    def step(self):
+        frame = self.frames[-1]
+        row = self.rows[frame[1]][frame[2]]
+        values = frame[3]
+        self.moment += 1
+
+        def worth(operand):
+            return operand if isinstance(operand, int) else values.get(operand, 0)
+
+        if row[0] == "call":
+            begun = dict(zip(self.parameters[row[2]], [worth(part) for part in row[3]]))
+            self.frames.append([self.moment, row[2], 0, begun])
+            return
+        if row[0] == "back":
+            self.frames.pop()
+            if not self.frames:
+                self.result = worth(row[1])
+                return
+            caller = self.frames[-1]
+            caller[3][self.rows[caller[1]][caller[2]][1]] = worth(row[1])
+            caller[2] += 1
+            return
+        frame[2] += 1
+        if row[0] == "go":
+            frame[2] = row[1]
+        elif row[0] == "if" and worth(row[1]):
+            frame[2] = row[2]
+        elif row[0] == "out":
+            self.outputs.append(worth(row[1]))
+        elif row[0] == "copy":
+            values[row[1]] = worth(row[2])
+        elif row[0] == "set":
+            values[row[1]] = reckon(row[2], worth(row[3]), worth(row[4]))
+        elif row[0] == "get":
+            values[row[1]] = self.inputs[self.asked] if self.asked < len(self.inputs) else 0
+            self.asked += 1
+
+
+def random_operand(chance, names):
+    if chance.random() < 0.6:
+        return chance.choice(names)
+    return chance.choice((0, 0, 1, 2, 3, 9972, chance.randrange(9973)))
+
+
+def random_row(chance, names, many, callees):
+    def operand():
+        return random_operand(chance, names)
+
+    word = chance.choice(("set", "set", "set", "copy", "copy", "if", "go", "call", "back", "get", "out"))
+    if word == "call" and not callees:
+        word = "set"
+    if word == "set":
+        return ("set", chance.choice(names), chance.choice(("add", "sub", "mul", "less")), operand(), operand())
+    if word == "copy":
+        return ("copy", chance.choice(names), operand())
+    if word == "if":
+        return ("if", operand(), chance.randrange(many))
+    if word == "go":
+        return ("go", chance.randrange(many))
+    if word == "call":
+        name, parameters = chance.choice(callees)
+        return ("call", chance.choice(names), name, tuple(operand() for _ in parameters))
+    if word == "get":
+        return ("get", chance.choice(names))
+    return (word, operand())
+
+
+def random_program(chance):
+    """Any program by chance, with calls of all kinds."""
+    heads = [("main", ())]
+    for name in chance.sample(("f", "g", "x"), chance.randrange(4)):
+        heads.append((name, tuple(chance.sample(NAMES, chance.randrange(3)))))
+    procedures = []
+    for name, parameters in heads:
+        names = chance.sample(NAMES, chance.randrange(2, 5))
+        many = chance.randrange(1, 13)
+        rows = [random_row(chance, names, many, heads[1:]) for _ in range(many - 1)]
+        rows.append(chance.choice((("back", random_operand(chance, names)), ("back", chance.choice(names)),
+                                   ("go", chance.randrange(many)))))
+        procedures.append((name, parameters, tuple(rows)))
+    return Program(procedures)
+
+
+def procedures_of(program):
+    return [program.procedure(name) for name in program.names()]
+
+
+def random_inputs(chance):
+    return [chance.choice((0, 1, 2, 5, chance.randrange(9973))) for _ in range(chance.randrange(5))]
+
+
+def chance_of(seed):
+    return random.Random(seed)
