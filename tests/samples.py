@@ -2,7 +2,9 @@
 
 import random
 
+from plainmoment.errors import NoChanges, TooMany
 from plainmoment.programs import Program
+from plainmoment.runs import Run
 
 NAMES = ("a", "b", "x", "yy", "zed", "long")
 
@@ -207,3 +209,93 @@ def random_inputs(chance):
 
 def chance_of(seed):
     return random.Random(seed)
+
+
+def random_run(chance, most=600):
+    """The program and inputs of a run within the limits, of at most so many steps."""
+    while True:
+        program = random_program(chance)
+        inputs = random_inputs(chance)
+        try:
+            run = Run(program, inputs)
+        except TooMany:
+            continue
+        if run.last() <= most:
+            return run
+
+
+def random_changes(chance, run):
+    """Up to eight changes that can be done in the run, if none moves it elsewhere."""
+    found = []
+    for t in sorted(chance.randrange(run.last()) for _ in range(chance.randrange(9))):
+        frame = chance.choice(run.state(t)[1])
+        variables = run.program().variables_of(frame[1])
+        if variables:
+            found.append((t, frame[0], chance.choice(variables), chance.choice((0, 1, 2, chance.randrange(9973)))))
+    return found
+
+
+def changed_run(chance, most=600):
+    """A run with changes, by chance."""
+    while True:
+        run = random_run(chance, most)
+        try:
+            return Run(run.program(), run.inputs(), random_changes(chance, run))
+        except (TooMany, NoChanges):
+            continue
+
+
+REGISTERS = ("r0", "r1", "r2", "r3")
+
+
+def random_labels(chance, many, length):
+    """Labels of so many made rows, from 0 to the length, never falling."""
+    if many == 0:
+        return (length,)
+    return (0, *sorted(chance.randrange(length + 1) for _ in range(many - 1)), length)
+
+
+def random_made(chance, program, stretch):
+    """A made stretch by chance, mostly wrong, its rows as those of the stretch might be or any others."""
+    among = program.variables_of(stretch[0]) + list(REGISTERS)
+    rows = []
+    for _ in range(chance.randrange(7)):
+        parts = [chance.choice(among) if chance.random() < 0.8 else chance.randrange(9973) for _ in range(2)]
+        op = chance.choice(("add", "sub", "mul", "less"))
+        row = ("copy", parts[0]) if chance.random() < 0.4 else ("set", op, *parts)
+        rows.append((row[0], chance.choice(among), *row[1:]))
+    return (stretch, tuple(rows), random_labels(chance, len(rows), stretch[2] - stretch[1] + 1))
+
+
+def right_made(chance, program, stretch):
+    """A right made stretch by chance: values stay in registers for a while, and some homes are written late."""
+    name, first, last = stretch
+    begun = program.procedure(name)[2][first:last + 1]
+    where = {variable: variable for variable in program.variables_of(name)}
+    rows = []
+
+    def free_register():
+        free = [place for place in REGISTERS if place not in where.values()]
+        return chance.choice(free) if free else None
+
+    for row in begun:
+        parts = [where[part] if isinstance(part, str) else part for part in row[-2:]]
+        target = free_register() if chance.random() < 0.6 else None
+        if row[0] == "copy":
+            rows.append(("copy", target or row[1], parts[-1]))
+        else:
+            rows.append(("set", target or row[1], row[2], *parts))
+        where[row[1]] = target or row[1]
+        if target is not None and chance.random() < 0.2:
+            rows.append(("copy", row[1], target))
+            where[row[1]] = row[1]
+        elif target is not None and chance.random() < 0.3:
+            rows.append(("copy", row[1], chance.choice((7, "r3"))))
+    for variable, place in where.items():
+        if place != variable:
+            rows.append(("copy", variable, place))
+    if chance.random() < 0.3:
+        rows.append(("copy", chance.choice(REGISTERS), chance.choice(list(where))))
+    if len(rows) > 12:
+        rows = list(begun)
+    return (stretch, tuple(rows), random_labels(chance, len(rows), len(begun)))

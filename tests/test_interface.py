@@ -9,12 +9,30 @@ FUNCTIONS = {
              "set_by": "row"},
     "states": {"is_state": "program value", "first_state": "program", "next_state": "program inputs state",
                "cell_in": "program state cell"},
+    "stretches": {"beginnings": "program procedure", "stretches": "program", "stretch_of": "program spot",
+                  "is_term": "value", "terms_at": "program stretch label", "worth": "term values"},
+    "made": {"places": "program procedure", "is_made": "program value", "plain_made": "program stretch",
+             "place_terms": "program made stop", "is_right": "program made", "shown_in": "program made stop variable",
+             "table_at": "program made stop", "told_beside": "program made stop",
+             "shown_paper": "program made stop variable", "accepts_shown": "program made paper"},
+    "maderuns": {"made_moments": "code run", "plain_moment": "code run here", "places_at": "code run here",
+                 "told_at": "code run here variable", "moments_of": "code run t", "step_on": "code run here",
+                 "step_back": "code run here"},
+    "tapes": {"comers": "program spot", "keeps_old": "row", "value_ahead": "row other value", "told_need": "row",
+              "shows_need": "row value", "keep_of": "run t", "tape_of": "run",
+              "undone": "program inputs state keep", "played_back": "program inputs changes state tape",
+              "is_tape": "run value"},
 }
 
 CLASSES = {
     "programs": {"Program": {"__init__": "procedures", "__eq__": "other", "names": "", "procedure": "name",
                              "variables_of": "name", "row": "spot", "spots": "", "nexts": "spot",
                              "has_spot": "value"}},
+    "runs": {"Run": {"__init__": "program inputs=() changes=()", "__eq__": "other", "__len__": "", "program": "",
+                     "inputs": "", "changes": "", "last": "", "state": "t", "ahead": "t", "spot_at": "t",
+                     "outputs": "", "result": "", "cell_at": "t cell"}},
+    "maderuns": {"Made": {"__init__": "program mades=()", "__eq__": "other", "program": "", "made_of": "stretch",
+                          "listed": ""}},
 }
 
 
