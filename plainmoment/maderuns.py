@@ -211,11 +211,10 @@ def moments_of(code, run, t):
     _need_both(code, run)
     if not is_within(t, 0, run.last()):
         raise NoMoment(t)
-    begin = _begin_of(code, run, t)
-    here = _first_from(code, run, begin)
+    here = _first_from(code, run, _begin_of(code, run, t))
     # The last stops of a stretch that is just done have the moment at which the next row begins.
     ahead = _ahead(code, run, here)
-    if begin == t and ahead is not None and _plain_of(code, run, ahead) == t:
+    if ahead is not None:
         here = _first_of_its_moment(code, run, ahead)
     found = []
     while here is not None and _plain_of(code, run, here) <= t:

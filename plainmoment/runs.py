@@ -75,10 +75,8 @@ class Run:
         self._spots = [state[1][-1][1:3] for state in self._states[:-1]]
 
     def __eq__(self, other):
-        if not isinstance(other, Run):
-            return False
-        alike = self._program == other._program and self._inputs == other._inputs
-        return alike and self._changes == other._changes
+        return (isinstance(other, Run) and self._program == other._program and self._inputs == other._inputs
+                and self._changes == other._changes)
 
     def __len__(self):
         return len(self._spots)

@@ -6,8 +6,8 @@ from plainmoment.programs import need_program, need_spot
 from plainmoment.rows import is_row, is_row_index, reckoned
 from plainmoment.runs import are_changes, need_run
 from plainmoment.states import (
-    MOST_STEPS, are_pairs, cell_in, frame_of, is_state, led_on_by_step, need_inputs, need_state, operand_worth,
-    row_on_top, value_of, with_cell, with_value)
+    MOST_STEPS, are_pairs, cell_in, is_state, led_on_by_step, need_inputs, need_state, operand_worth, row_on_top,
+    value_of, with_cell, with_value)
 
 
 def _comers(program, spot):
@@ -259,7 +259,7 @@ def _state_before(program, state, keep):
 def _undone(program, inputs, state, keep):
     """The state ahead of the step that has this keep and leads to the state; None if no step does so."""
     before = _state_before(program, state, keep)
-    if before is None or not is_state(program, before):
+    if not is_state(program, before):
         return None
     # Only a back keeps a frame; the one kept may stand at a call, which could have no room to be done.
     if (row_on_top(program, before)[0] == "back") != (keep[1] is not None):
@@ -294,7 +294,7 @@ def _taken_back(program, state, changes, olds):
         if change[0] != state[0]:
             continue
         cell = change[1:3]
-        if frame_of(program, ahead, cell) is None or cell_in(program, ahead, cell) != change[3]:
+        if cell_in(program, ahead, cell) != change[3]:
             raise NoTape(state[0])
         ahead = with_cell(program, ahead, cell, old)
     return ahead

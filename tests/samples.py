@@ -164,7 +164,7 @@ def random_row(chance, names, many, callees):
     def operand():
         return random_operand(chance, names)
 
-    word = chance.choice(("set", "set", "set", "copy", "copy", "if", "go", "call", "back", "get", "out"))
+    word = chance.choice(("set", "set", "set", "copy", "copy", "if", "if", "go", "call", "call", "back", "get", "out"))
     if word == "call" and not callees:
         word = "set"
     if word == "set":
@@ -183,19 +183,24 @@ def random_row(chance, names, many, callees):
     return (word, operand())
 
 
+def random_procedure(chance, name, parameters, callees):
+    names = sorted({*chance.sample(NAMES, chance.randrange(2, 5)), *parameters})
+    many = chance.choice((chance.randrange(1, 13), chance.randrange(5, 13)))
+    rows = [random_row(chance, names, many, callees) for _ in range(many - 1)]
+    rows.append(chance.choice((("back", random_operand(chance, names)), ("back", chance.choice(names)),
+                               ("go", chance.randrange(many)))))
+    return (name, parameters, tuple(rows))
+
+
 def random_program(chance):
-    """Any program by chance, with calls of all kinds."""
+    """Any program by chance, with calls of all kinds; mostly of procedures that stand behind."""
     heads = [("main", ())]
     for name in chance.sample(("f", "g", "x"), chance.randrange(4)):
         heads.append((name, tuple(chance.sample(NAMES, chance.randrange(3)))))
     procedures = []
-    for name, parameters in heads:
-        names = chance.sample(NAMES, chance.randrange(2, 5))
-        many = chance.randrange(1, 13)
-        rows = [random_row(chance, names, many, heads[1:]) for _ in range(many - 1)]
-        rows.append(chance.choice((("back", random_operand(chance, names)), ("back", chance.choice(names)),
-                                   ("go", chance.randrange(many)))))
-        procedures.append((name, parameters, tuple(rows)))
+    for at, (name, parameters) in enumerate(heads):
+        callees = heads[max(1, at + 1):] if chance.random() < 0.8 else heads[1:]
+        procedures.append(random_procedure(chance, name, parameters, callees))
     return Program(procedures)
 
 
@@ -212,16 +217,17 @@ def chance_of(seed):
 
 
 def random_run(chance, most=600):
-    """The program and inputs of a run within the limits, of at most so many steps."""
-    while True:
-        program = random_program(chance)
-        inputs = random_inputs(chance)
+    """A run within the limits, of at most so many steps, by chance: the richest one of several."""
+    found = []
+    while len(found) < 8:
         try:
-            run = Run(program, inputs)
+            run = Run(random_program(chance), random_inputs(chance))
         except TooMany:
             continue
         if run.last() <= most:
-            return run
+            frames = max(len(run.state(t)[1]) for t in range(run.last()))
+            found.append((len({run.spot_at(t) for t in range(run.last())}) * frames, len(found), run))
+    return max(found)[2]
 
 
 def random_changes(chance, run):

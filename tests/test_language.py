@@ -235,6 +235,12 @@ class Language(unittest.TestCase):
                             if part.func.attr in changing:
                                 self.assertNotIn(ast.dump(part.func.value), over, f"{path.name}:{part.lineno}")
 
+    def test_comparing_and_counting_assign_nothing(self):
+        for path, tree in trees():
+            for node in functions_of(tree):
+                if node.name in ("__eq__", "__len__"):
+                    self.assertEqual([type(part) for part in node.body], [ast.Return], path)
+
     def test_a_length_is_counted(self):
         for path, tree in trees():
             for node in functions_of(tree):

@@ -126,7 +126,7 @@ class Forms(MadeTest):
                 ("set", "z", "add", 1), ("set", "z", "add", 1, 1, 1), ("copy", "z"), ("copy", "z", 1, 1),
                 ("copy", "p", 1), ("copy", "z", "p"), ("copy", "r4", 1), ("copy", "z", "r4"), ("copy", 1, "z"),
                 ("copy", "z", True), ("copy", "z", 9973), ("copy", "z", -1), ("set", "z", "div", 1, 1),
-                ("set", "w", "add", 1, 1), ("set", "z", "add", "w", 1), ("set", "z", "add", 1, False),
+                ("sets", "z", "add", 1, 1), ("copy", "z", "add", 1, 1), ("set", "w", "add", 1, 1), ("set", "z", "add", "w", 1), ("set", "z", "add", 1, False),
                 ("out", "z"), ("get", "z"), ("if", "z", 1), ["copy", "z", 1], ("copy", "z", Odd()),
                 ("copy", Odd(), 1), (Odd(), "z", 1), ("set", "z", Odd(), 1, 1), ("set", "z", "add", 1, Odd())]:
             self.assertIs(is_made(PROGRAM, (STRETCH, (row,), (0, 3))), False)
@@ -317,6 +317,7 @@ class Papers(MadeTest):
                     self.rejects(("gone", 3, "y", self.with_row(rows, place, values={**values, name: wrong})))
             for more in ("p", "r4", 0, None):
                 self.rejects(("gone", 3, "y", self.with_row(rows, place, values={**values, more: 1})))
+                self.rejects(("gone", 3, "y", self.with_row(rows, place, values={**lacking, more: 1})))
             for wrong in (None, [], (), Odd(), list(values.items())):
                 self.rejects(("gone", 3, "y", self.with_row(rows, place, values=wrong if wrong is not None else 5)))
 

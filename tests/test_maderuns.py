@@ -125,6 +125,8 @@ class MakingCode(MadeRunsTest):
             self.assertFalse(code == other)
             self.assertTrue(code != other)
         self.assertFalse(Made(PROGRAM) == Made(PROGRAM, [plain_made(PROGRAM, STRETCH)]))
+        self.assertFalse(Made(PROGRAM) == Made(CALLER))
+        self.assertTrue(Made(PROGRAM) == Made(PROGRAM, ()))
 
     def test_copies(self):
         given = [MADE]

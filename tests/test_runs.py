@@ -188,6 +188,8 @@ class Changes(RunsTest):
         changes = [(1, 0, "x", 5), (3, 0, "x", 5), (2, 0, "x", 5), (0, 0, "x", 5)]
         self.assertEqual(self.told_by(NoChanges, CALLER, [4], changes).told, 2)
         self.assertEqual(self.told_by(NoChanges, CALLER, [4], [(2, 9, "q", 5), (1, 0, "x", 5)]).told, 1)
+        self.assertEqual(self.told_by(NoChanges, CALLER, [4], [(2, 0, "q", 5), (1, 0, "x", 5)]).told, 1)
+        self.assertEqual(len(Run(CALLER, [4], [(7, 6, "p", 5), (8, 0, "x", 5)]).changes()), 2)
 
     def test_cells_that_do_not_stand(self):
         for change in ((1, 1, "x", 5), (1, 0, "p", 5), (1, 2, "p", 5), (2, 2, "x", 5), (4, 2, "p", 5), (2, 0, "p", 5)):

@@ -57,6 +57,8 @@ class Stretches(unittest.TestCase):
         self.assertEqual(beginnings(procedure="main", program=COUNTDOWN), [0, 1, 2, 3, 4])
         self.assertEqual(beginnings(plain((("go", 0),)), "main"), [0])
         self.assertEqual(beginnings(plain((("go", 1), ("back", 1))), "main"), [0, 1])
+        self.assertEqual(beginnings(plain((("out", 1), ("back", 1))), "main"), [0, 1])
+        self.assertEqual(beginnings(plain((("back", 1), ("back", 1))), "main"), [0, 1])
 
     def test_stretches(self):
         self.assertEqual(stretches(MIXED), [("main", 0, 1), ("main", 2, 2), ("main", 4, 4), ("main", 6, 7),
@@ -179,6 +181,10 @@ class Terms(unittest.TestCase):
                 terms_at(MIXED, ("main", 0, 1), value)
             self.assertIs(caught.exception.told, value)
         terms_at(MIXED, ("main", 0, 1), 2)
+        terms_at(MIXED, ("main", 6, 7), 2)
+        for value in (3, 4, 14):
+            with self.assertRaises(NoLabel):
+                terms_at(MIXED, ("main", 6, 7), value)
 
 
 class Worth(unittest.TestCase):

@@ -272,6 +272,26 @@ class Keeps(TapesTest):
         self.assertEqual(keep_of(Run(program), 1), (0, (1, 0, ()), 0))
         self.assertEqual(keep_of(t=2, run=Run(program)), (None, None, None))
 
+    def test_the_comer_of_a_back_from_deep_within(self):
+        program = Program([
+            ("main", (), (("out", 1), ("out", 2), ("call", "x", "f", (5,)), ("if", "x", 3), ("back", "x"))),
+            ("f", ("p",), (("out", 3), ("call", "y", "g", ("p",)), ("if", "y", 2), ("back", 0))),
+            ("g", ("q",), (("copy", "q", 0), ("if", "q", 1), ("out", 4), ("back", "q")))])
+        run = Run(program)
+        self.assertEqual([run.spot_at(t) for t in (8, 10)], [("g", 3), ("f", 3)])
+        self.assertEqual(keep_of(run, 8), (0, (5, 3, ()), 1))
+        self.assertEqual(keep_of(run, 10), (0, (3, 3, (("p", 5),)), 2))
+
+    def test_a_call_has_no_comer(self):
+        program = Program([("main", (), (("call", "x", "f", ()), ("back", "x"))),
+                           ("f", (), (("if", 0, 0), ("if", 0, 0), ("back", 0)))])
+        run = Run(program)
+        self.assertEqual(comers(program, ("f", 0)), (0, 1))
+        self.assertEqual(keep_of(run, 0), (None, None, None))
+        self.assertEqual(undone(program, (), run.state(1), (None, None, None)), run.state(0))
+        keep = (None, None, 0)
+        self.refused(NoTape, keep, undone, program, (), run.state(1), keep)
+
     def test_keeps_of_changes(self):
         run = Run(EXAMPLE, [5], [(0, 0, "x", 3), (1, 0, "x", 0), (1, 0, "x", 8), (1, 0, "x", 8), (2, 0, "x", 1)])
         self.assertEqual(tape_of(run), (((3, None, None), (None, None, None), (None, (0, 2, (("x", 1),)), None)),
@@ -489,8 +509,8 @@ class PlayedBack(TapesTest):
                       [(1, True, "x", 1)], [(601, 0, "x", 1)], [Odd()]):
             self.refused(NoChanges, value, played_back, EXAMPLE, [5], value, None, None)
         self.refused(NoState, None, played_back, EXAMPLE, [5], [(600, 0, "x", 1)], None, None)
-        above = [(1, 0, "x", 8), (4, 0, "x", 1)]
-        self.refused(NoChanges, above, played_back, EXAMPLE, [5], above, state, None)
+        for above in ([(1, 0, "x", 8), (4, 0, "x", 1)], [(4, 0, "x", 1)]):
+            self.refused(NoChanges, above, played_back, EXAMPLE, [5], above, state, None)
         self.refused(NoTape, 3, played_back, EXAMPLE, [5], [(1, 0, "x", 8), (3, 0, "x", 1)], state, tape)
 
     def test_tapes_of_another_form(self):
@@ -500,7 +520,9 @@ class PlayedBack(TapesTest):
                  (keeps + keeps[:1], olds), (keeps, ()), (keeps, olds * 2), (keeps, (True,)), (keeps, (9973,)),
                  (keeps, (None,)), (keeps, Odd()), (Odd(), olds)]
         for keep in (None, [0, None, None], (0, None), (True, None, None), (0, None, "x"), (0, 5, None), (9973, None, None),
-                     (0, (0, 2), None), (0, (0, 2, [("x", 10)]), None), Odd(), (Odd(), None, None), (0, Odd(), None)):
+                     (0, (0, 2), None), (0, (0, 12, ()), None), (0, (601, 2, ()), None), (0, None, 12),
+                     (0, (0, 2, (("x", 0),)), None), (0, (0, 2, (("y", 1), ("x", 1))), None),
+                     (0, (0, 2, [("x", 10)]), None), Odd(), (Odd(), None, None), (0, Odd(), None)):
             wrong += [(replaced(keeps, at, keep), olds) for at in range(3)]
         for value in wrong:
             self.refused(NoTape, None, played_back, EXAMPLE, [5], changes, state, value)
