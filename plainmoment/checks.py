@@ -31,3 +31,25 @@ def is_listed(value, most):
 def is_tuple_of(value, many):
     """Whether any value is a tuple of just so many items."""
     return isinstance(value, tuple) and len(value) == many
+
+
+def is_like(value, told):
+    """Whether any value is just what is told: a number, a text, None, or a tuple of such."""
+    if isinstance(told, tuple):
+        return is_tuple_of(value, len(told)) and all([is_like(part, other) for part, other in zip(value, told)])
+    if told is None:
+        return value is None
+    if isinstance(told, str):
+        return isinstance(value, str) and value == told
+    return is_number(value) and value == told
+
+
+def is_ascending(value, low, high):
+    """Whether any value is an ascending tuple of numbers from low to high."""
+    if not isinstance(value, tuple):
+        return False
+    for number in value:
+        if not is_within(number, low, high):
+            return False
+        low = number + 1
+    return True

@@ -136,3 +136,33 @@ def need_run(run):
     """Refuses any value that is no run."""
     if not isinstance(run, Run):
         raise NoRun(run)
+
+
+def need_moment(run, t):
+    """Refuses any value that is no moment of a run."""
+    if not is_within(t, 0, run.last()):
+        raise NoMoment(t)
+
+
+def need_step(run, t):
+    """Refuses any value that is no step of a run."""
+    if not is_within(t, 0, run.last() - 1):
+        raise NoMoment(t)
+
+
+def need_cell(run, t, cell):
+    """Refuses any value that is no run, then any that is no moment of it, then any that is no cell then."""
+    need_run(run)
+    run.cell_at(t, cell)
+
+
+def need_run_of(program, run):
+    """Refuses any value that is no run of a program."""
+    if not isinstance(run, Run) or run.program() != program:
+        raise NoRun(run)
+
+
+def last_changed(run):
+    """The moment of the last change of a run, 0 without changes."""
+    changes = run.changes()
+    return changes[-1][0] if len(changes) > 0 else 0

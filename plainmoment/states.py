@@ -132,9 +132,14 @@ def _led_out(program, state, row):
     return (moment + 1, frames[:-2] + (caller,), asked, outputs, None)
 
 
+def input_at(inputs, number):
+    """What the get of a number finds."""
+    return inputs[number] if number < len(inputs) else 0
+
+
 def _made_by(row, values, inputs, asked):
     if row[0] == "get":
-        return inputs[asked] if asked < len(inputs) else 0
+        return input_at(inputs, asked)
     if row[0] == "copy":
         return operand_worth(values, row[2])
     return reckoned(row[2], operand_worth(values, row[3]), operand_worth(values, row[4]))

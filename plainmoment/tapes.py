@@ -160,7 +160,8 @@ def keep_of(run, t):
     return _keep_between(run.program(), run.state(t), run.ahead(t + 1))
 
 
-def _olds_of(run):
+def olds_of(run):
+    """The tuple of the keeps of the changes of a run; nothing is asked of what is handed in."""
     olds = []
     state = run.ahead(0)
     for t, born, variable, value in run.changes():
@@ -174,7 +175,7 @@ def _olds_of(run):
 def tape_of(run):
     """The tape of a run: the pair of the keeps of its steps and those of its changes."""
     need_run(run)
-    return (tuple([keep_of(run, t) for t in range(run.last())]), _olds_of(run))
+    return (tuple([keep_of(run, t) for t in range(run.last())]), olds_of(run))
 
 
 def _is_kept_frame(value):
@@ -300,6 +301,19 @@ def _taken_back(program, state, changes, olds):
     return ahead
 
 
+def state_back(program, inputs, changes, state, tape):
+    """The state at the moment ahead of that of a state, None ahead of moment 0; the forms are not asked."""
+    keeps, olds = tape
+    ahead = _taken_back(program, state, changes, olds)
+    t = ahead[0]
+    if t == 0:
+        return None
+    before = _undone(program, inputs, ahead, keeps[t - 1])
+    if before is None:
+        raise NoTape(t)
+    return before
+
+
 def played_back(program, inputs, changes, state, tape):
     """The list of the states of a run, from the one handed in down to moment 0, told by its tape."""
     need_program(program)
@@ -311,17 +325,11 @@ def played_back(program, inputs, changes, state, tape):
         raise NoChanges(changes)
     if not _is_tape_form(tape, state[0], len(changes)):
         raise NoTape(None)
-    keeps, olds = tape
-    states = [state]
-    while True:
-        ahead = _taken_back(program, states[-1], changes, olds)
-        t = ahead[0]
-        if t == 0:
-            return states
-        before = _undone(program, inputs, ahead, keeps[t - 1])
-        if before is None:
-            raise NoTape(t)
-        states.append(before)
+    states = []
+    while state is not None:
+        states.append(state)
+        state = state_back(program, inputs, changes, state, tape)
+    return states
 
 
 def is_tape(run, value):

@@ -1,6 +1,7 @@
 """What several tests need: odd values, programs, and an own plain reckoning to compare with."""
 
 import random
+import unittest
 
 from plainmoment.errors import NoChanges, TooMany
 from plainmoment.programs import Program
@@ -305,3 +306,28 @@ def right_made(chance, program, stretch):
     if len(rows) > 12:
         rows = list(begun)
     return (stretch, tuple(rows), random_labels(chance, len(rows), len(begun)))
+
+
+class Told(unittest.TestCase):
+    """A test that asks which error a call raises, and what the error tells."""
+
+    def told(self, error, function, *arguments, **named):
+        with self.assertRaises(error) as caught:
+            function(*arguments, **named)
+        self.assertIs(caught.exception.__class__, error)
+        return caught.exception.told
+
+    def most(self, function, *arguments, **named):
+        with self.assertRaises(TooMany) as caught:
+            function(*arguments, **named)
+        return caught.exception.most
+
+    def refuses_all(self, error, values, function, *ahead, behind=()):
+        """Each of the values raises the error, which tells just it."""
+        for value in values:
+            self.assertIs(self.told(error, function, *ahead, value, *behind), value, repr(type(value)))
+
+    def likes_none(self, values, function, *ahead):
+        """The function tells False of each of the values, and nothing else."""
+        for value in values:
+            self.assertIs(function(*ahead, value), False)

@@ -22,6 +22,22 @@ FUNCTIONS = {
               "shows_need": "row value", "keep_of": "run t", "tape_of": "run",
               "undone": "program inputs state keep", "played_back": "program inputs changes state tape",
               "is_tape": "run value"},
+    "keptstates": {"reach_on": "last moments", "reach_both": "last moments", "least_on": "last many",
+                   "least_both": "last many", "even_on": "last many", "even_both": "last many"},
+    "causes": {"reads_of": "run step", "writes_of": "run step", "last_write": "run t cell", "causes_of": "run t cell",
+               "askings_of": "run t cell", "effects_of": "run step", "redone": "run steps t cell",
+               "is_enough": "run t cell value", "is_closed_lot": "run t cell value",
+               "agree_about": "run other t cell", "causes_paper": "run t cell", "shows_causes": "run t cell value"},
+    "seeking": {"is_condition": "program value", "cells_in": "condition", "holds_at": "run t condition",
+                "spells_of": "run condition", "first_moment": "run t condition", "next_moment": "run t condition",
+                "last_moment": "run t condition", "soonest_moments": "run t conditions",
+                "follows_at": "run t conditions value"},
+    "branches": {"branch_of": "run changes", "main_of": "run", "idle_changes": "run", "lean_changes": "run",
+                 "unlike_cells": "one other t", "joined_at": "one other"},
+    "alive": {"live_at": "program spot", "live_beneath": "program spot", "live_paper": "program spot variable",
+              "judge_live": "program spot variable paper", "alike_key": "program inputs state",
+              "are_alike": "one t other u", "first_meeting": "one other", "first_unlike": "one other",
+              "healed_at": "run", "awaited_cells": "run t"},
 }
 
 CLASSES = {
@@ -33,6 +49,8 @@ CLASSES = {
                      "outputs": "", "result": "", "cell_at": "t cell"}},
     "maderuns": {"Made": {"__init__": "program mades=()", "__eq__": "other", "program": "", "made_of": "stretch",
                           "listed": ""}},
+    "keptstates": {"Kept": {"__init__": "run moments", "__eq__": "other", "moments": "", "road_to": "t",
+                            "come_to": "t"}},
 }
 
 

@@ -106,7 +106,7 @@ class Language(unittest.TestCase):
                 if isinstance(node, ast.Assign):
                     self.assertEqual(len(node.targets), 1)
                     for part in ast.walk(node.value):
-                        self.assertIsInstance(part, (ast.Constant, ast.Tuple, ast.Load), path)
+                        self.assertIsInstance(part, (ast.Constant, ast.Tuple, ast.Dict, ast.Load), path)
             names = bound_at_top(tree)
             self.assertEqual(len(names), len(set(names)), path)
             self.assertFalse(set(names) & set(dir(builtins)), path)
