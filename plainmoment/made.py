@@ -124,16 +124,41 @@ def is_right(program, made):
     return made_is_right(program, made)
 
 
-def _showing(held, term, home):
+def need_right(program, made):
+    """Refuses any value that is no program, and then any that is no right made stretch of it."""
+    if not is_made(program, made) or not made_is_right(program, made):
+        raise NoMade(made)
+
+
+def need_right_stop(program, made, stop):
+    """Refuses as need_right does, and then any value that is no stop."""
+    need_right(program, made)
+    if not is_within(stop, 0, len(made[1])):
+        raise NoStop(stop)
+
+
+def showing_in(held, term, home):
+    """The places that have a term, by the dict from all places to theirs; the home is ahead of the others."""
     others = [place for place in held if place != home and held[place] == term]
     return [home] + others if held[home] == term else others
+
+
+def first_showing(held, term, home):
+    """The first of the places that have a term, None if none has."""
+    showing = showing_in(held, term, home)
+    return showing[0] if len(showing) > 0 else None
+
+
+def places_showing(program, made, stop, variable):
+    """The list of the places that show a variable at a stop; nothing is asked of what is handed in."""
+    term = terms_of(program, made[0], made[2][stop])[variable]
+    return showing_in(made_terms(program, made, stop), term, variable)
 
 
 def shown_in(program, made, stop, variable):
     """The list of the places that show a variable at a stop, its own home ahead of the others."""
     _need_variable(program, made, stop, variable)
-    term = terms_of(program, made[0], made[2][stop])[variable]
-    return _showing(made_terms(program, made, stop), term, variable)
+    return places_showing(program, made, stop, variable)
 
 
 def made_table(program, made, stop):
@@ -141,8 +166,7 @@ def made_table(program, made, stop):
     held = made_terms(program, made, stop)
     table = {}
     for variable, term in terms_of(program, made[0], made[2][stop]).items():
-        showing = _showing(held, term, variable)
-        table[variable] = showing[0] if len(showing) > 0 else None
+        table[variable] = first_showing(held, term, variable)
     return table
 
 

@@ -57,10 +57,28 @@ class Made:
         return list(self._listed)
 
 
+def need_plain_run(run):
+    """Refuses any value that is no run without changes."""
+    if not isinstance(run, Run) or len(run.changes()) > 0:
+        raise NoRun(run)
+
+
+def is_begin(run, made, t):
+    """Whether a step of a run does the first row of the stretch of a made stretch."""
+    return run.spot_at(t) == made[0][:2]
+
+
+def need_begin(run, made, begin):
+    """Refuses any value that is no moment of a run at which the stretch of a made stretch begins."""
+    if not is_within(begin, 0, run.last() - 1) or not is_begin(run, made, begin):
+        raise NoMoment(begin)
+
+
 def _need_both(code, run):
     if not isinstance(code, Made):
         raise NoMade(code)
-    if not isinstance(run, Run) or len(run.changes()) > 0 or run.program() != code.program():
+    need_plain_run(run)
+    if run.program() != code.program():
         raise NoRun(run)
 
 

@@ -2,7 +2,9 @@
 
 import random
 import unittest
+from fractions import Fraction
 
+from plainmoment.edits import Edit
 from plainmoment.errors import NoChanges, TooMany
 from plainmoment.programs import Program
 from plainmoment.runs import Run
@@ -306,6 +308,103 @@ def right_made(chance, program, stretch):
     if len(rows) > 12:
         rows = list(begun)
     return (stretch, tuple(rows), random_labels(chance, len(rows), len(begun)))
+
+
+def names_in(row):
+    parts = {"set": row[3:], "copy": row[2:], "call": row[-1], "go": (), "get": ()}.get(row[0], row[1:2])
+    return {part for part in parts if isinstance(part, str)}
+
+
+def is_live_anew(program, spot, variable):
+    """Whether there is a way, sought spot by spot."""
+    seen, waiting = set(), [spot]
+    while waiting:
+        here = waiting.pop()
+        if here in seen:
+            continue
+        seen.add(here)
+        row = program.procedure(here[0])[2][here[1]]
+        if variable in names_in(row):
+            return True
+        if row[0] not in ("set", "copy", "get", "call") or row[1] != variable:
+            waiting += program.nexts(here)
+    return False
+
+
+def live_anew(program, spot):
+    return tuple(name for name in program.variables_of(spot[0]) if is_live_anew(program, spot, name))
+
+
+def beneath_anew(program, spot):
+    x = program.row(spot)[1]
+    return tuple(name for name in live_anew(program, (spot[0], spot[1] + 1)) if name != x)
+
+
+def key_anew(program, inputs, state):
+    frames = []
+    for at, (_, name, index, values) in enumerate(state[1], 1):
+        told = (live_anew if at == len(state[1]) else beneath_anew)(program, (name, index))
+        frames.append((name, index, tuple((one, dict(values).get(one, 0)) for one in told)))
+    return (tuple(frames), tuple(inputs)[state[2]:], state[4])
+
+
+def edited_rows(chance, rows, names):
+    """Rows edited by chance, and the dict from the indexes of those that stay to the new ones."""
+    kept = [(index, row) for index, row in enumerate(rows)]
+    for _ in range(chance.randrange(3)):
+        at = chance.randrange(len(kept))
+        kind = chance.random()
+        if kind < 0.5 and len(kept) < 12:
+            row = chance.choice((("copy", chance.choice(names), 7), ("set", chance.choice(names), "add", 1, 2)))
+            kept.insert(at, (None, row))
+        elif kind < 0.7 and len(kept) > 1 and at < len(kept) - 1:
+            kept.pop(at)
+        elif kept[at][1][0] in ("copy", "out"):
+            index, row = kept[at]
+            kept[at] = (index, (*row[:-1], chance.choice((chance.choice(names), 5))))
+    led = {index: at for at, (index, _) in enumerate(kept) if index is not None}
+    made = []
+    for index, row in kept:
+        if row[0] in ("if", "go"):
+            row = (*row[:-1], min([at for old, at in led.items() if old >= row[-1]], default=0))
+        made.append(row)
+    return tuple(made), led
+
+
+def edited(chance, program):
+    """An edit by chance of a program: rows come, go and change, and some are not told."""
+    procedures, pairs = [], []
+    for name, parameters, rows in procedures_of(program):
+        made, led = edited_rows(chance, rows, program.variables_of(name) or ["x"])
+        procedures.append((name, parameters, made))
+        pairs += [((name, old), (name, new)) for old, new in led.items()]
+    other = Program(procedures)
+    told = []
+    for spot, to in pairs:
+        if chance.random() < 0.1:
+            to = (to[0], chance.randrange(len(other.procedure(to[0])[2])))
+        row, led = program.row(spot), other.row(to)
+        if chance.random() < 0.95 and (row[0] != "call" or led[:2] == row[:2]):
+            told.append((spot, to))
+    return Edit(program, other, told)
+
+
+def dependence(columns):
+    """Numbers, not all 0, by which columns sum up to nothing, as fractions, if there are any; the last one not 0."""
+    taken = []
+    for many, column in enumerate(columns):
+        left = {key: Fraction(number) for key, number in column.items() if number}
+        numbers = {many: Fraction(1)}
+        for pivot, other, other_numbers in taken:
+            share = left.get(pivot, 0) / other[pivot]
+            for whole, part in ((left, other), (numbers, other_numbers)):
+                for key, number in part.items():
+                    whole[key] = whole.get(key, 0) - share * number
+        left = {key: number for key, number in left.items() if number}
+        if not left:
+            return [numbers.get(at, Fraction(0)) for at in range(many + 1)]
+        taken.append((max(left, key=repr), left, numbers))
+    return None
 
 
 class Told(unittest.TestCase):

@@ -8,8 +8,9 @@ from plainmoment.alive import (alike_key, are_alike, awaited_cells, first_meetin
 from plainmoment.errors import NoChanges, NoInputs, NoMoment, NoProgram, NoRun, NoSpot, NoState, NoVariable, TooMany
 from plainmoment.programs import Program
 from plainmoment.runs import Run
-from tests.samples import (CALLER, COUNTDOWN, Odd, Told, changed_run, chance_of, odd_values, plain, random_changes,
-                           random_inputs, random_program, random_run)
+from tests.samples import (CALLER, COUNTDOWN, Odd, Told, beneath_anew, changed_run, chance_of, is_live_anew, key_anew,
+                           live_anew, names_in, odd_values, plain, random_changes, random_inputs, random_program,
+                           random_run)
 
 MAIN = "main"
 
@@ -44,44 +45,6 @@ CALLING = Program([
 ])
 
 ENDLESS = plain((("if", "x", 2), ("go", 0), ("back", "x")))
-
-
-def names_in(row):
-    parts = {"set": row[3:], "copy": row[2:], "call": row[-1], "go": (), "get": ()}.get(row[0], row[1:2])
-    return {part for part in parts if isinstance(part, str)}
-
-
-def is_live_anew(program, spot, variable):
-    """Whether there is a way, sought spot by spot."""
-    seen, waiting = set(), [spot]
-    while waiting:
-        here = waiting.pop()
-        if here in seen:
-            continue
-        seen.add(here)
-        row = program.procedure(here[0])[2][here[1]]
-        if variable in names_in(row):
-            return True
-        if row[0] not in ("set", "copy", "get", "call") or row[1] != variable:
-            waiting += program.nexts(here)
-    return False
-
-
-def live_anew(program, spot):
-    return tuple(name for name in program.variables_of(spot[0]) if is_live_anew(program, spot, name))
-
-
-def beneath_anew(program, spot):
-    x = program.row(spot)[1]
-    return tuple(name for name in live_anew(program, (spot[0], spot[1] + 1)) if name != x)
-
-
-def key_anew(program, inputs, state):
-    frames = []
-    for at, (_, name, index, values) in enumerate(state[1], 1):
-        told = (live_anew if at == len(state[1]) else beneath_anew)(program, (name, index))
-        frames.append((name, index, tuple((one, dict(values).get(one, 0)) for one in told)))
-    return (tuple(frames), tuple(inputs)[state[2]:], state[4])
 
 
 def changed_again(chance, run):

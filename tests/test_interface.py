@@ -38,6 +38,25 @@ FUNCTIONS = {
               "judge_live": "program spot variable paper", "alike_key": "program inputs state",
               "are_alike": "one t other u", "first_meeting": "one other", "first_unlike": "one other",
               "healed_at": "run", "awaited_cells": "run t"},
+    "putting": {"sites_at": "program made stop variable", "table_behind": "program made stop variable put",
+                "is_closed_put": "program made stop variable put", "is_good_put": "program made stop variable put",
+                "first_wrong": "program made stop variable put", "closed_puts": "program made stop variable",
+                "good_puts": "program made stop variable", "put_paper": "program made stop variable",
+                "accepts_put": "program made paper",
+                "homes_behind": "program made stop variable put value values",
+                "plain_behind": "program made stop variable value values",
+                "change_at": "run made begin stop variable value"},
+    "landings": {"landings": "run edit", "landed": "run edit t", "led_on": "run edit t", "goal": "run edit t gone=()",
+                 "next_landing": "run edit t", "gone_behind": "run edit t gone=()", "spoilt": "run edit t",
+                 "landing_paper": "run edit t", "accepts_landing": "run edit paper", "maps_for": "run program t"},
+    "counters": {"reached_rows": "program procedure", "arcs_of": "program procedure",
+                 "counts_at": "run t procedure", "standing_at": "run t procedure",
+                 "does_tell": "program procedure arcs", "tell_paper": "program procedure arcs",
+                 "accepts_tell": "program procedure arcs value", "cheapest_counters": "program procedure prices=None",
+                 "counts_by": "program procedure standing counted"},
+    "allcounters": {"called_names": "program", "all_arcs": "program", "do_tell_all": "program arcs",
+                    "free_paper": "program arcs", "accepts_free": "program arcs value",
+                    "fewest_for_all": "program"},
 }
 
 CLASSES = {
@@ -51,6 +70,8 @@ CLASSES = {
                           "listed": ""}},
     "keptstates": {"Kept": {"__init__": "run moments", "__eq__": "other", "moments": "", "road_to": "t",
                             "come_to": "t"}},
+    "edits": {"Edit": {"__init__": "program other pairs", "__eq__": "other", "old": "", "new": "", "pairs": "",
+                       "to": "spot", "is_same": "", "then": "edit"}},
 }
 
 
@@ -71,6 +92,11 @@ class Interface(unittest.TestCase):
                 for name, told in methods.items():
                     method = vars(getattr(module, kind))[name]
                     self.assertEqual(" ".join(self.parameters_of(method)[1:]), told, f"{kind}.{name}")
+
+    def test_static_methods(self):
+        edits = importlib.import_module("plainmoment.edits")
+        self.assertIsInstance(vars(edits.Edit)["same"], staticmethod)
+        self.assertEqual(self.parameters_of(edits.Edit.same), ["program"])
 
     def parameters_of(self, function):
         """The names of the parameters, a default behind its sign; all may be given by position and by name."""

@@ -13,7 +13,7 @@ comprehension BoolOp And Or BinOp Add Sub Mult Mod FloorDiv UnaryOp Not USub Com
 NotIn IfExp Load Store Starred JoinedStr FormattedValue keyword""".split())
 
 BUILTINS = set("""len range enumerate zip min max sum abs sorted reversed int str bool list tuple dict set isinstance
-ord repr any all divmod ValueError OverflowError""".split())
+ord repr any all divmod ValueError OverflowError staticmethod""".split())
 
 METHODS = set("""append clear copy count endswith extend find get index insert isalnum isalpha isdigit islower isspace
 isupper items join keys ljust lower lstrip partition pop remove replace reverse rfind rjust rpartition rsplit rstrip
@@ -25,6 +25,8 @@ methodcaller os quit setattr super type vars sys print chr bytes frozenset iter 
 
 WORDS = set("""type typing typing_extensions enum Enum IntEnum StrEnum Flag IntFlag Generic Protocol ABC ABCMeta namedtuple
 NamedTuple TypedDict TYPE_CHECKING abstractmethod dataclass overload contextmanager""".split())
+
+LIBRARY = {"itertools": ("combinations",), "math": ("gcd",)}
 
 AT_ONCE = set("list tuple dict sorted sum any all enumerate zip min max".split())
 
@@ -83,7 +85,7 @@ class Language(unittest.TestCase):
         for path, tree in trees():
             for node in functions_of(tree):
                 self.assertLessEqual(node.end_lineno - node.lineno + 1, 40, f"{path.name} {node.name}")
-                self.assertEqual(node.decorator_list, [])
+                self.assertIn([ast.unparse(part) for part in node.decorator_list], ([], ["staticmethod"]))
 
     def test_only_plain_parts(self):
         for path, tree in trees():
@@ -106,7 +108,8 @@ class Language(unittest.TestCase):
                 if isinstance(node, ast.Assign):
                     self.assertEqual(len(node.targets), 1)
                     for part in ast.walk(node.value):
-                        self.assertIsInstance(part, (ast.Constant, ast.Tuple, ast.Dict, ast.Load), path)
+                        self.assertIsInstance(part, (ast.Constant, ast.Tuple, ast.Dict, ast.UnaryOp, ast.USub,
+                                                     ast.Load), path)
             names = bound_at_top(tree)
             self.assertEqual(len(names), len(set(names)), path)
             self.assertFalse(set(names) & set(dir(builtins)), path)
@@ -119,11 +122,15 @@ class Language(unittest.TestCase):
             begun = [node for node in tree.body if not isinstance(node, (ast.ImportFrom, ast.Expr))]
             imports = [node for node in tree.body if isinstance(node, ast.ImportFrom)]
             self.assertTrue(all(node.lineno < begun[0].lineno for node in imports), path)
-            leads[path.stem] = [node.module for node in imports]
+            leads[path.stem] = [node.module for node in imports if node.module not in LIBRARY]
         for path, tree in trees():
             for node in ast.walk(tree):
                 if isinstance(node, ast.ImportFrom):
                     self.assertEqual(node.level, 0)
+                    if node.module in LIBRARY:
+                        self.assertLessEqual({(part.name, part.asname) for part in node.names},
+                                             {(name, None) for name in LIBRARY[node.module]})
+                        continue
                     package, _, name = node.module.partition(".")
                     self.assertEqual(package, "plainmoment")
                     for part in node.names:
