@@ -149,7 +149,6 @@ def accepts_free(program, arcs, value):
 
 def fewest_for_all(program):
     """The tuple of the arcs of a lot that tells all, of as few as can be."""
-    need_program(program)
     taken = []
     counted = []
     for arc in all_arcs(program):

@@ -271,6 +271,8 @@ class Papers(Told):
 
     def test_no_count(self):
         for function, behind in ((do_tell_all, ()), (free_paper, ()), (accepts_free, (None,))):
+            for arc in (("f", 0, True), ("f", False, 1), ("f", 0, 1.0), ("g", -1, 0)):
+                self.assertEqual(self.told(NoCount, function, TWICE, [arc], *behind), 0)
             for arcs in (None, 0, "", {}, {("f", 0, 1): 1}, range(0), True):
                 self.assertIsNone(self.told(NoCount, function, TWICE, arcs, *behind))
             for arc in odd_values() + [(0, 1), ("f", 0), ("f", 0, 2), ("f", 0, 1, 1), ["f", 0, 1], ("f", False, 1),

@@ -61,6 +61,13 @@ class Edits(Told):
         for wrong in ((1, 1), (1, 2), (1, 3), (1, 4), (2, 0), (2, 1), (2, 3)):
             self.assertEqual(self.told(NoEdit, Edit, ONE, OTHER, pairs_of((0, 1), wrong)), 1)
 
+    def test_calls_lead_to_no_other_row_with_this_variable(self):
+        one = Program([("main", (), (("call", "x", "f", ()), ("back", 0))), ("f", (), (("back", 0),))])
+        rows = (("get", "x"), ("copy", "x", 1), ("set", "x", "add", 1, 1), ("if", "x", 0), ("out", "x"), ("back", "x"))
+        other = Program([("main", (), rows), ("f", (), (("back", 0),))])
+        for index in range(6):
+            self.assertEqual(self.told(NoEdit, Edit, one, other, pairs_of((0, index))), 0)
+
     def test_others_may_lead_to_calls(self):
         for to in (0, 2, 3):
             self.assertEqual(Edit(ONE, OTHER, pairs_of((0, to), (4, to))).to(at(4)), at(to))
@@ -140,6 +147,7 @@ class Edits(Told):
         self.assertFalse(edit == Edit(ONE, OTHER, pairs_of((4, 4))))
         self.assertFalse(Edit(ONE, OTHER, []) == Edit(OTHER, ONE, []))
         self.assertFalse(Edit(ONE, ONE, []) == Edit(ONE, OTHER, []))
+        self.assertFalse(Edit(OTHER, OTHER, []) == Edit(ONE, OTHER, []))
         for other in (None, 0, edit.pairs(), ONE):
             self.assertFalse(edit == other)
 

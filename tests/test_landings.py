@@ -314,7 +314,7 @@ class Papers(Told):
         self.assertIs(accepts_landing(run, none, ("map", 3, 0)), True)
         self.assertIs(accepts_landing(run, none, ("map", 3, 1)), True)
         self.likes_none([("map", 3, 2), ("map", 3, -1), ("map", 3, True), ("map", 3, 0.0), ("map", 3, None),
-                         ("map", 7, 0), ("map", 8, 0), ("map", False, 0), ("none", 3, []), ("landed", 3, 4)],
+                         ("map", 7, 0), ("map", 8, 0), ("map", False, 0), ("none", 3, []), ("landed", 3, 4), ("none", 3, [("row", 0)] * 9)],
                         accepts_landing, run, none)
         self.likes_none([("map", 3, 0), ("map", 2, 1)], accepts_landing, run, edit)
         self.assertEqual(landing_paper(run, none, 7), ("landed", 7, 8))
