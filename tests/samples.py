@@ -4,10 +4,15 @@ import random
 import unittest
 from fractions import Fraction
 
+from plainmoment.causes import writes_of
 from plainmoment.edits import Edit
 from plainmoment.errors import NoChanges, TooMany
+from plainmoment.landings import goal, gone_behind
+from plainmoment.made import is_right
 from plainmoment.programs import Program
+from plainmoment.roads import Setting
 from plainmoment.runs import Run
+from plainmoment.stretches import stretches
 
 NAMES = ("a", "b", "x", "yy", "zed", "long")
 
@@ -430,3 +435,100 @@ class Told(unittest.TestCase):
         """The function tells False of each of the values, and nothing else."""
         for value in values:
             self.assertIs(function(*ahead, value), False)
+
+
+def edit_back(edit):
+    """The edit that leads back to the first program, from those spots to which just one leads."""
+    pairs = edit.pairs()
+    goals = [to for _, to in pairs]
+    found = [(to, spot) for spot, to in pairs if goals.count(to) == 1]
+    return Edit(edit.new(), edit.old(), [(to, spot) for to, spot in found
+                                         if edit.new().row(to)[0] != "call"
+                                         or edit.new().row(to)[:2] == edit.old().row(spot)[:2]])
+
+
+def random_setting(chance, most=50):
+    """A setting by chance, with made code, and with edits there and back, one of them the identity."""
+    run = random_run(chance, most)
+    program = run.program()
+    there = edited(chance, program)
+    edits = chance.sample([Edit.same(program), there, edit_back(there), Edit.same(there.new())], 4)
+    mades = [right_made(chance, program, stretch) for stretch in stretches(program)]
+    return Setting(program, run.inputs(), stretches=[made for made in mades if is_right(program, made)],
+                   edits=edits[:chance.choice((2, 3, 4, 4))])
+
+
+def gone_anew(run, floor, gone, t):
+    """The cells that are still gone at a moment, by the words of the document."""
+    borns = [frame[0] for frame in run.state(t)[1]]
+    written = [cell for step in range(floor, t) for cell in writes_of(run, step)]
+    written += [change[1:3] for change in run.changes() if change[0] <= t]
+    return sorted(cell for cell in gone if cell[0] in borns and cell not in written)
+
+
+def stage_anew(setting, legs):
+    """The run, the floor and the gone cells of a road, leg by leg; None if a leg may not stand."""
+    run, floor, gone = Run(setting.program(), setting.inputs()), 0, []
+    for leg in legs:
+        if leg[0] == "change":
+            if leg[1] < floor or any(leg[1] < change[0] for change in run.changes()):
+                return None
+            try:
+                run = Run(run.program(), run.inputs(), (*run.changes(), leg[1:]))
+            except NoChanges:
+                return None
+            continue
+        _, t, number = leg
+        edit = setting.edits()[number]
+        if edit.old() != run.program() or not floor <= t <= run.last():
+            return None
+        if any(t < change[0] for change in run.changes()):
+            return None
+        lost = gone_anew(run, floor, gone, t)
+        to = goal(run, edit, t, lost)
+        if to is None:
+            return None
+        gone = gone_behind(run, edit, t, lost)
+        run, floor = Run(edit.new(), run.inputs()), to
+    return run, floor, gone
+
+
+def view_anew(run, floor, gone, t):
+    lost = gone_anew(run, floor, gone, t)
+    moment, frames, asked, outputs, result = run.state(t)
+    seen = []
+    for born, name, index, values in frames:
+        pairs = tuple((one, None if (born, one) in lost else dict(values).get(one, 0))
+                      for one in run.program().variables_of(name))
+        seen.append((born, name, index, pairs))
+    return (moment, tuple(seen), asked, outputs, result)
+
+
+def random_leg(chance, setting, run, floor):
+    """A leg that mostly may stand, by the run and the floor of a road."""
+    last = max([floor] + [change[0] for change in run.changes()])
+    if setting.edits() and chance.random() < 0.5:
+        numbers = [number for number, edit in enumerate(setting.edits()) if edit.old() == run.program()]
+        number = chance.choice(numbers or [0])
+        return ("land", chance.randrange(max(last, run.last() - 20), run.last() + 1), number)
+    t = chance.randrange(last, run.last()) if last < run.last() else last
+    frames = run.state(t)[1]
+    if not frames:
+        return ("change", t, 0, "x", 1)
+    frame = chance.choice(frames)
+    names = run.program().variables_of(frame[1]) or ["x"]
+    return ("change", t, frame[0], chance.choice(names), chance.choice((0, 1, 2, chance.randrange(9973))))
+
+
+def random_legs(chance, setting, most=5):
+    """Legs of a road by chance, and what they lead to."""
+    legs, stage = (), stage_anew(setting, ())
+    for _ in range(chance.randrange(most + 1)):
+        leg = random_leg(chance, setting, *stage[:2])
+        try:
+            behind = stage_anew(setting, (*legs, leg))
+        except TooMany:
+            continue
+        if behind is not None:
+            legs, stage = (*legs, leg), behind
+    return legs, stage

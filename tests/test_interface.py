@@ -57,6 +57,22 @@ FUNCTIONS = {
     "allcounters": {"called_names": "program", "all_arcs": "program", "do_tell_all": "program arcs",
                     "free_paper": "program arcs", "accepts_free": "program arcs value",
                     "fewest_for_all": "program"},
+    "pauses": {"come_spots": "program", "bound_of": "program looks", "longest_way": "program looks",
+               "is_way": "program looks value", "pause_at": "run looks t",
+               "least_looks": "program looks menu most"},
+    "roads": {"idle_legs": "road", "first_parting": "one other", "last_parting": "one other"},
+    "hands": {"home_place": "", "is_place": "setting value", "is_command": "setting value",
+              "seen_at": "setting place", "place_behind": "setting place command", "can_do": "setting place command",
+              "places_behind": "setting place commands", "see_alike": "setting one other"},
+    "allroads": {"is_still": "run value", "journey_moments": "run journey", "journey_changes": "run journey",
+                 "step_cost": "run kept now t *back=False", "visits_cost": "run kept visits *back=False",
+                 "best_kept": "run visits many *back=False", "sight_at": "run t menu", "moments_like": "run t menu",
+                 "tells": "run t menu", "least_menus": "run t menu", "sight_paper": "run t menu",
+                 "accepts_sight": "run value"},
+    "madelandings": {"begins": "run made", "needs_at": "edit made stop", "hinders_at": "edit made stop",
+                     "suits": "edit made stop", "made_goal": "run edit made begin stop",
+                     "landing_stops": "run edit made begin", "made_shown": "run edit made begin stop",
+                     "made_paper": "run edit made begin stop", "accepts_made": "run edit made paper"},
 }
 
 CLASSES = {
@@ -72,6 +88,10 @@ CLASSES = {
                             "come_to": "t"}},
     "edits": {"Edit": {"__init__": "program other pairs", "__eq__": "other", "old": "", "new": "", "pairs": "",
                        "to": "spot", "is_same": "", "then": "edit"}},
+    "roads": {"Setting": {"__init__": "program inputs=() *stretches=() *edits=()", "__eq__": "other", "program": "",
+                          "inputs": "", "edits": "", "code": "", "main_run": ""},
+              "Road": {"__init__": "setting legs=()", "__eq__": "other", "setting": "", "legs": "", "run": "",
+                       "floor": "", "gone_at": "t", "view": "t", "ahead": ""}},
 }
 
 
@@ -99,12 +119,13 @@ class Interface(unittest.TestCase):
         self.assertEqual(self.parameters_of(edits.Edit.same), ["program"])
 
     def parameters_of(self, function):
-        """The names of the parameters, a default behind its sign; all may be given by position and by name."""
+        """The names of the parameters, a star ahead of what is given by name alone, a default behind its sign."""
         told = []
         for parameter in inspect.signature(function).parameters.values():
-            self.assertEqual(parameter.kind, parameter.POSITIONAL_OR_KEYWORD)
+            self.assertIn(parameter.kind, (parameter.POSITIONAL_OR_KEYWORD, parameter.KEYWORD_ONLY))
+            star = "*" if parameter.kind == parameter.KEYWORD_ONLY else ""
             default = "" if parameter.default is parameter.empty else f"={parameter.default!r}"
-            told.append(parameter.name + default)
+            told.append(star + parameter.name + default)
         return told
 
 

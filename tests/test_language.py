@@ -10,7 +10,7 @@ FOLDER = pathlib.Path(__file__).resolve().parent.parent / "plainmoment"
 NODES = set("""Module Expr Constant FunctionDef arguments arg ClassDef ImportFrom alias Assign AugAssign Return If While
 For Break Continue Pass Raise Call Attribute Name Subscript Slice Tuple List Dict Set ListComp DictComp SetComp
 comprehension BoolOp And Or BinOp Add Sub Mult Mod FloorDiv UnaryOp Not USub Compare Eq NotEq Lt LtE Gt GtE Is IsNot In
-NotIn IfExp Load Store Starred JoinedStr FormattedValue keyword""".split())
+NotIn IfExp Load Store Starred JoinedStr FormattedValue keyword Try ExceptHandler With withitem""".split())
 
 BUILTINS = set("""len range enumerate zip min max sum abs sorted reversed int str bool list tuple dict set isinstance
 ord repr any all divmod ValueError OverflowError staticmethod""".split())
@@ -109,7 +109,9 @@ class Language(unittest.TestCase):
                     self.assertEqual(len(node.targets), 1)
                     for part in ast.walk(node.value):
                         self.assertIsInstance(part, (ast.Constant, ast.Tuple, ast.Dict, ast.UnaryOp, ast.USub,
-                                                     ast.Load), path)
+                                                     ast.Load, ast.Name), path)
+                        if isinstance(part, ast.Name):
+                            self.assertIn(part.id, bound_at_top(tree)[:bound_at_top(tree).index(node.targets[0].id)])
             names = bound_at_top(tree)
             self.assertEqual(len(names), len(set(names)), path)
             self.assertFalse(set(names) & set(dir(builtins)), path)
@@ -177,6 +179,19 @@ class Language(unittest.TestCase):
                     stored = [part.attr for part in ast.walk(node)
                               if isinstance(part, ast.Attribute) and isinstance(part.ctx, ast.Store)]
                     self.assertFalse(set(methods) & set(stored), node.name)
+
+    def test_only_own_errors_are_caught(self):
+        own = {"MomentError", "TooMany"} | {
+            node.name for _, tree in trees() for node in tree.body if isinstance(node, ast.ClassDef)
+            and [ast.unparse(base) for base in node.bases] == ["MomentError"]}
+        for path, tree in trees():
+            for node in ast.walk(tree):
+                if isinstance(node, ast.Try):
+                    self.assertEqual(node.finalbody, [])
+                if isinstance(node, ast.ExceptHandler):
+                    self.assertIsNone(node.name)
+                    kinds = node.type.elts if isinstance(node.type, ast.Tuple) else [node.type]
+                    self.assertLessEqual({kind.id for kind in kinds}, own, f"{path.name}:{node.lineno}")
 
     def test_comparisons_by_is(self):
         for path, tree in trees():
