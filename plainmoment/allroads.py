@@ -4,7 +4,7 @@ from itertools import combinations
 
 from plainmoment.checks import is_ascending, is_listed, is_name, is_number, is_tuple_of, is_within
 from plainmoment.errors import NoCount, NoMenu, NoMoment, NoRoad
-from plainmoment.runs import MOST_CHANGES, need_moment, need_run
+from plainmoment.runs import MOST_CHANGES, by_moments, need_moment, need_run
 from plainmoment.states import frame_of, value_of
 
 MOST_HOPS = 20
@@ -25,15 +25,6 @@ def is_still(run, value):
         return False
     t, cell = value[0], value[1:3]
     return _is_cell_ahead(run, t, cell) and run.cell_at(t, cell) == value[3]
-
-
-def _changes_with(run, puts):
-    """The tuple of the changes of a run and of puts, by moments, of one moment those of the run ahead."""
-    changes = list(run.changes())
-    for put in puts:
-        at = len([change for change in changes if change[0] <= put[0]])
-        changes.insert(at, put)
-    return tuple(changes)
 
 
 def _put(run, t, puts, cell):
@@ -92,7 +83,8 @@ def journey_moments(run, journey):
 
 def journey_changes(run, journey):
     """The tuple of the changes of a journey: those of the run and its puts."""
-    return _changes_with(run, _gone_along(run, journey)[1])
+    puts = _gone_along(run, journey)[1]
+    return tuple(by_moments(list(run.changes()) + puts))
 
 
 def _are_kept(run, value):

@@ -66,7 +66,7 @@ def last_write(run, t, cell):
     return _last_write(run, t, cell)
 
 
-def _links(run):
+def links_by(run):
     """For each step the dict from the cells that it reads, ascending, to their last writes then."""
     written = {}
     links = []
@@ -77,10 +77,10 @@ def _links(run):
     return links
 
 
-def _causes(links, write):
-    """The ascending list of the causes of a cell with this last write, perhaps None."""
+def causes_from(links, writes):
+    """The ascending list of the causes of cells with these last writes, perhaps None."""
     found = {}
-    waiting = [write]
+    waiting = list(writes)
     while len(waiting) > 0:
         step = waiting.pop()
         if step is not None and step not in found:
@@ -91,7 +91,7 @@ def _causes(links, write):
 
 def causes_by(run, t, cell):
     """The ascending list of the causes of a cell at a moment; nothing is asked of what is handed in."""
-    return _causes(_links(run), _last_write(run, t, cell))
+    return causes_from(links_by(run), [_last_write(run, t, cell)])
 
 
 def causes_of(run, t, cell):
@@ -115,7 +115,7 @@ def effects_of(run, step):
     """The ascending tuple of the later steps that read a cell of which a step is a cause then."""
     need_run(run)
     need_step(run, step)
-    links = _links(run)
+    links = links_by(run)
     reached = {step: True}
     for later in range(step + 1, run.last()):
         if any([write in reached for write in links[later].values()]):
@@ -172,7 +172,7 @@ def is_closed_lot(run, t, cell, value):
     need_cell(run, t, cell)
     if not is_ascending(value, 0, t - 1):
         return False
-    links = _links(run)
+    links = links_by(run)
     asked = [_last_write(run, t, cell)]
     for step in value:
         asked.extend(list(links[step].values()))
@@ -203,9 +203,9 @@ def agree_about(run, other, t, cell):
     need_cell(run, t, cell)
     if not _do_like_rows(run, other, t):
         return False
-    links = _links(run)
+    links = links_by(run)
     write = _last_write(run, t, cell)
-    steps = _causes(links, write)
+    steps = causes_from(links, [write])
     asked = [(cell, write, t)]
     for step in steps:
         asked.extend([(read, link, step) for read, link in links[step].items()])
@@ -218,9 +218,9 @@ def agree_about(run, other, t, cell):
 def causes_paper(run, t, cell):
     """The pair of the last write of a cell and of rows, one for each cause, of what it reads and from where."""
     need_cell(run, t, cell)
-    links = _links(run)
+    links = links_by(run)
     write = _last_write(run, t, cell)
-    return (write, tuple([(step, tuple(links[step].items())) for step in _causes(links, write)]))
+    return (write, tuple([(step, tuple(links[step].items())) for step in causes_from(links, [write])]))
 
 
 def shows_causes(run, t, cell, value):

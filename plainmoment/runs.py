@@ -30,6 +30,15 @@ def are_changes(value):
     return is_listed(value, MOST_CHANGES) and first_wrong_change(value) is None
 
 
+def _moment_of(change):
+    return change[0]
+
+
+def by_moments(changes):
+    """The list of changes by their moments, those of one moment as they were."""
+    return sorted(changes, key=_moment_of)
+
+
 def _changed(program, ahead, changes, done):
     state = ahead
     while done < len(changes) and changes[done][0] == state[0]:

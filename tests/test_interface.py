@@ -73,6 +73,16 @@ FUNCTIONS = {
                      "suits": "edit made stop", "made_goal": "run edit made begin stop",
                      "landing_stops": "run edit made begin", "made_shown": "run edit made begin stop",
                      "made_paper": "run edit made begin stop", "accepts_made": "run edit made paper"},
+    "apart": {"plain_run": "run", "reach_of": "run", "keeps_rows": "run", "conflicts_of": "one other",
+              "are_apart": "one other", "joined_run": "one other", "put_together": "one other moment"},
+    "leastchanges": {"run_of": "program inputs menu lot", "least_sets": "program inputs menu wish",
+                     "is_least": "program inputs menu wish value", "apart_groups": "program inputs menu",
+                     "is_wish": "program value", "does_hold": "run wish", "blame_of": "run index",
+                     "whole_blame": "run index"},
+    "live": {"shortest_to": "setting place"},
+    "texts": {"write_condition": "condition", "write_command": "command", "write_program": "program",
+              "write_setting": "setting", "write_live": "live", "read_condition": "text", "read_command": "text",
+              "read_program": "text", "read_setting": "text", "read_live": "text"},
 }
 
 CLASSES = {
@@ -92,6 +102,11 @@ CLASSES = {
                           "inputs": "", "edits": "", "code": "", "main_run": ""},
               "Road": {"__init__": "setting legs=()", "__eq__": "other", "setting": "", "legs": "", "run": "",
                        "floor": "", "gone_at": "t", "view": "t", "ahead": ""}},
+    "live": {"Live": {"__init__": "setting *many=1", "__eq__": "other", "__len__": "", "setting": "",
+                      "do": "hand command", "undo": "hand", "redo": "hand", "place": "hand", "sees": "hand",
+                      "line": "hand", "hands_with": "hand", "back": "", "again": "", "trial": "",
+                      "trying": "guest *kept=False", "twin": ""}},
+    "console": {"Console": {"__init__": "", "run": "line"}},
 }
 
 
@@ -117,6 +132,10 @@ class Interface(unittest.TestCase):
         edits = importlib.import_module("plainmoment.edits")
         self.assertIsInstance(vars(edits.Edit)["same"], staticmethod)
         self.assertEqual(self.parameters_of(edits.Edit.same), ["program"])
+
+    def test_properties(self):
+        live = importlib.import_module("plainmoment.live")
+        self.assertIsInstance(vars(live.Live)["many"], property)
 
     def parameters_of(self, function):
         """The names of the parameters, a star ahead of what is given by name alone, a default behind its sign."""

@@ -13,7 +13,7 @@ comprehension BoolOp And Or BinOp Add Sub Mult Mod FloorDiv UnaryOp Not USub Com
 NotIn IfExp Load Store Starred JoinedStr FormattedValue keyword Try ExceptHandler With withitem""".split())
 
 BUILTINS = set("""len range enumerate zip min max sum abs sorted reversed int str bool list tuple dict set isinstance
-ord repr any all divmod ValueError OverflowError staticmethod""".split())
+ord repr any all divmod ValueError OverflowError staticmethod property""".split())
 
 METHODS = set("""append clear copy count endswith extend find get index insert isalnum isalpha isdigit islower isspace
 isupper items join keys ljust lower lstrip partition pop remove replace reverse rfind rjust rpartition rsplit rstrip
@@ -85,7 +85,7 @@ class Language(unittest.TestCase):
         for path, tree in trees():
             for node in functions_of(tree):
                 self.assertLessEqual(node.end_lineno - node.lineno + 1, 40, f"{path.name} {node.name}")
-                self.assertIn([ast.unparse(part) for part in node.decorator_list], ([], ["staticmethod"]))
+                self.assertIn([ast.unparse(part) for part in node.decorator_list], ([], ["staticmethod"], ["property"]))
 
     def test_only_plain_parts(self):
         for path, tree in trees():
@@ -163,7 +163,7 @@ class Language(unittest.TestCase):
                 if isinstance(node, (ast.FunctionDef, ast.ClassDef)):
                     self.assertNotIn(node.name, BARRED)
                     if node.name.startswith("__"):
-                        self.assertIn(node.name, ("__init__", "__eq__", "__len__"))
+                        self.assertIn(node.name, ("__init__", "__eq__", "__len__", "__enter__", "__exit__"))
 
     def test_methods(self):
         kinds = (str, int, list, tuple, dict, set, bytes)
@@ -262,6 +262,16 @@ class Language(unittest.TestCase):
             for node in functions_of(tree):
                 if node.name in ("__eq__", "__len__"):
                     self.assertEqual([type(part) for part in node.body], [ast.Return], path)
+
+    def test_leaving_a_block_only_assigns(self):
+        allowed = (ast.If, ast.Assign, ast.Attribute, ast.Name, ast.Load, ast.Store, ast.BoolOp, ast.And, ast.Compare,
+                   ast.Is, ast.IsNot, ast.Constant, ast.BinOp, ast.Add, ast.List, ast.Tuple)
+        for path, tree in trees():
+            for node in functions_of(tree):
+                if node.name == "__exit__":
+                    for statement in node.body:
+                        for part in ast.walk(statement):
+                            self.assertIsInstance(part, allowed, f"{path.name}:{node.lineno}")
 
     def test_a_length_is_counted(self):
         for path, tree in trees():
