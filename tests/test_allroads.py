@@ -93,7 +93,7 @@ class Journeys(Told):
             self.assertEqual(self.told(NoRoad, journey_changes, RUN, journey), index)
 
     def test_no_journeys(self):
-        hops = [["on", 1], ("on",), ("on", 1, 1), ("on", True), ("on", "1"), ("back", None), ("from", 1), ("from", 1, 2, 3),
+        hops = [["on", 1], ("hop", 0, "n"), ("hop", 0, 0), ("on",), ("on", 1, 1), ("on", True), ("on", "1"), ("back", None), ("from", 1), ("from", 1, 2, 3),
                 ("from", False, 1), ("from", 0, True), ("put", 0), ("put", 0, "n", 3), ("put", False, "n"),
                 ("put", "n", 0), (Odd(),), ("on", Odd()), ("from", Odd(), 1), ("from", 0, Odd()), ("put", Odd(), "n"),
                 ("put", 0, Odd())]
@@ -168,6 +168,7 @@ class Costs(Told):
 
     def test_best_kept(self):
         self.assertEqual(best_kept(RUN, [], 4), ((0,), 0))
+        self.assertEqual(best_kept(RUN, [8, 7], 1), ((0,), 15))
         self.assertEqual(best_kept(RUN, [9, 9], 2), ((0, 9), 0))
         self.assertEqual(best_kept(RUN, [9, 9], 1), ((0,), 9))
         self.assertEqual(best_kept(RUN, [9, 5, 9, 5], 2), ((0, 5), 8))
@@ -263,7 +264,7 @@ class Sights(Told):
             ("told", 2, ("x",)), ("told", 2, ["s"]), ("told", 2), ("told", 2, ("s",), 1), ("told", True, ()), ("told", -1, ()),
             ("told", last + 1, ()), ("told", 0, ("n", "n")), ("told", 0, ("N",)), ("told", 0, (1,)), ("told", 0, Odd()),
             ("told", 0, (Odd(),)), (Odd(), 0, ()), ("told", Odd(), ()), ("tell", 0, ()), ("told", 0, None),
-            ("alike", 2, 2, ("x",)), ("alike", 2, 6, ("n",)), ("alike", 2, 6, ["x"]), ("alike", 2, 6), ("alike", 2, 3, ()),
+            ("alike", 2, 2, ("x",)), ("like", 2, 6, ("x",)), ("alike", 2, 6, ("n",)), ("alike", 2, 6, ["x"]), ("alike", 2, 6), ("alike", 2, 3, ()),
             ("alike", last, last, ()), ("alike", 2, last, ()), ("alike", 2, last + 4, ()), ("alike", 2, True, ()),
             ("alike", 2, Odd(), ()), ("alike", Odd(), 2, ()), ["alike", 2, 6, ("x",)], ("alike", 2, 6, ("x", "x")),
             ("told", 0, tuple("abcdefghi")), ("alike", 2, 6, tuple("abcdefghi")), ("alike", 0, ()), ("told", 2, 6, ("s",)),

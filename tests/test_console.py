@@ -71,7 +71,7 @@ class Lines(Told):
         console = begun()
         self.answers(console, [("hand 0 on 1", "ok"), ("hand 0 change 0 x 9", "ok"), ("hand 0 on 1", "ok"), ("causes 0 0 y", "0 1"),
                                ("hand 0 home", "ok"), ("hand 0 land 0", "ok"), ("hand 0 on 4", "ok"), ("causes 0 0 z", "3"),
-                               ("first row main 4", "4"), ("first row main 5", "error"), ("first not row main 0", "1"),
+                               ("first row main 4", "4"), ("first row main 5", "error"), ("first not row main 0", "1"), ("first row main 0", "0"),
                                ("first both ended not ended", "none")])
 
     def test_without_a_session(self):

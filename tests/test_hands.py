@@ -177,7 +177,8 @@ class Places(Told):
         self.assertIs(is_place(SETTING, (9 * (("change", 0, 0, "x", 1),), 0, None)), False)
 
     def test_no_setting(self):
-        self.refuses_all(NoSetting, odd_values(), is_place, behind=(HOME,))
+        for value in (HOME, None):
+            self.refuses_all(NoSetting, odd_values(), is_place, behind=(value,))
 
     def test_seen(self):
         self.assertEqual(seen_at(SETTING, ((), 3, None)),
@@ -307,6 +308,13 @@ class Behind(Told):
         legs = (("change", 3, 0, "y", 6), ("land", 3, 0))
         self.assertEqual(self.behind((legs, 4, None), "change", 0, "z", 1),
                          (legs + (("change", 4, 0, "z", 1),), 4, None))
+
+    def test_a_landing_from_a_later_moment_stays(self):
+        legs = (("land", 3, 0), ("land", 5, 1))
+        for t in (4, 5):
+            self.assertTrue(is_place(SETTING, (legs, t, None)))
+        self.assertEqual(self.behind((legs, 4, None), "change", 0, "y", 1), (legs + (("change", 4, 0, "y", 1),), 4, None))
+        self.assertEqual(self.behind((legs, 4, None), "land", 2), (legs + (("land", 4, 2),), 4, None))
 
     def test_land(self):
         self.assertEqual(self.behind(((), 3, None), "land", 0), ((("land", 3, 0),), 4, None))

@@ -110,7 +110,7 @@ class Wishes(Told):
             ("output", 600, 0), ("output", -1, 0), ("output", 0, 9973), ("output", 0), ("output", True, 0),
             ("output", 0, True), ("output", 0, 0, 0), ("result",), ("result", -1), ("result", None), ("result", 0, 0),
             ("done", ("main", 8)), ("done", ["main", 0]), ("never", ("f", 0)), ("never", "main"), ("done", "main", 0),
-            ["result", 0], ("wish", 0), (Odd(), 0), ("output", Odd(), 0), ("output", 0, Odd()), ("result", Odd()),
+            ["result", 0], ("wish", 0), ("doing", ("main", 0)), ("outputs", 0, 0), (Odd(), 0), ("output", Odd(), 0), ("output", 0, Odd()), ("result", Odd()),
             ("done", Odd()), ("done", ("main", Odd()))], is_wish, TWO)
         self.refuses_all(NoProgram, odd_values(), is_wish, behind=(None,))
 

@@ -167,6 +167,7 @@ class Goals(Told):
         for stop in range(4):
             self.assertIs(accepts_made(RUN, EDIT, MADE, made_paper(RUN, EDIT, MADE, 1, stop)), True)
         self.likes_none(odd_values() + [
+            ("lands", 5, 0, 1), ("lands", 6, 0, 1), ("hindered", 5, 1, "x"), ("hinders", 1, 1, "x"),
             ("lands", 1, 0, 2), ("lands", 1, 1, None), ("lands", 1, 1, 1), ("lands", 2, 0, 1), ("lands", True, 0, 1),
             ("lands", 1, False, 1), ("lands", 1, 0, True), ("lands", 1, 4, 4), ("lands", 1, -1, 4), ("lands", 1, 0),
             ("lands", 1, 0, 1, 1), ["lands", 1, 0, 1], ("lands", 9, 0, 1), ("lands", 1, 0, 1.0), ("landed", 1, 0, 1),

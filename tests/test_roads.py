@@ -195,7 +195,8 @@ class Roads(Told):
             self.assertEqual(self.told(NoRoad, Road, SETTING, [change(0, "x", 1), value]), 1)
         for leg in (list(change(0, "x", 1)), (*change(0, "x", 1), 0), change(0, "x", 1)[:4], ("land", 0), ("land", 0, 0, 0),
                     ("lands", 0, 0), (Odd(), 0, 0), ("land", Odd(), 0), ("land", 0, Odd()), change(0, Odd(), 1),
-                    ("change", 0, "x", 1), change(0, "x", Odd())):
+                    ("change", 0, "x", 1), change(0, "x", Odd()), change(None, "x", 1), change(Odd(), "x", 1),
+                    change(True, "x", 1), change(0, "x", 1, None)):
             self.assertEqual(self.told(NoRoad, Road, SETTING, [leg]), 0)
 
     def test_too_many_leg_by_leg(self):
