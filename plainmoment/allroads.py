@@ -4,6 +4,7 @@ from itertools import combinations
 
 from plainmoment.checks import is_ascending, is_listed, is_name, is_number, is_tuple_of, is_within
 from plainmoment.errors import NoCount, NoMenu, NoMoment, NoRoad
+from plainmoment.parts import least_parts
 from plainmoment.runs import MOST_CHANGES, by_moments, need_moment, need_run
 from plainmoment.states import frame_of, value_of
 
@@ -205,28 +206,25 @@ def tells(run, t, menu):
 
 
 def _told_apart(run, t, menu):
-    """For each other moment at the spot of a moment the indexes of a menu at which both sights are unlike, each
-    such tuple once."""
+    """For each other moment at the spot of a moment the names of a menu by which both sights are unlike, each such
+    tuple once."""
     spot, values = _sight(run, t, menu)
     found = []
     for other in range(run.last() + 1):
         there, others = _sight(run, other, menu)
         if other != t and there == spot:
-            found.append(tuple([at for at in range(len(values)) if values[at] != others[at]]))
+            found.append(tuple([name for at, name in enumerate(menu) if values[at] != others[at]]))
     return sorted(set(found))
+
+
+def _is_told(apart, part):
+    """Whether a part of a menu has a name by which each other moment is told apart."""
+    return all([any([name in part for name in unlike]) for unlike in apart])
 
 
 def _least_menus(run, t, menu):
     apart = _told_apart(run, t, menu)
-    indexes = list(range(len(menu)))
-    least = []
-    for size in range(len(indexes) + 1):
-        for part in combinations(indexes, size):
-            if any([all([at in part for at in other]) for other in least]):
-                continue
-            if all([any([at in part for at in unlike]) for unlike in apart]):
-                least.append(part)
-    return [tuple([menu[at] for at in part]) for part in least]
+    return least_parts(menu, lambda part: _is_told(apart, part))
 
 
 def least_menus(run, t, menu):

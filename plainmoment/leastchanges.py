@@ -6,6 +6,7 @@ from plainmoment.apart import conflicts_between, lot_of
 from plainmoment.causes import asked_by, causes_from, links_by
 from plainmoment.checks import is_ascending, is_listed, is_tuple_of, is_value, is_within
 from plainmoment.errors import NoChanges, NoCount, NoMenu, NoWish, TooMany
+from plainmoment.parts import least_parts
 from plainmoment.programs import need_program
 from plainmoment.runs import Run, by_moments, is_change, need_run
 from plainmoment.states import MOST_STEPS, need_inputs
@@ -91,15 +92,7 @@ def _fulfils(program, inputs, menu, wish, lot):
 
 def _least_within(program, inputs, menu, wish, among):
     """The least sets of some indexes of a menu, by size, then ascending."""
-    indexes = list(among)
-    least = []
-    for size in range(len(indexes) + 1):
-        for lot in combinations(indexes, size):
-            if any([all([index in lot for index in other]) for other in least]):
-                continue
-            if _fulfils(program, inputs, menu, wish, lot):
-                least.append(lot)
-    return least
+    return least_parts(among, lambda lot: _fulfils(program, inputs, menu, wish, lot))
 
 
 def least_sets(program, inputs, menu, wish):

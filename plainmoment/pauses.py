@@ -1,9 +1,8 @@
 """Pauses: how many steps may be done without coming to a look, and which looks are enough."""
 
-from itertools import combinations
-
 from plainmoment.checks import is_number
 from plainmoment.errors import NoCount, NoLooks, NoMenu
+from plainmoment.parts import least_parts
 from plainmoment.programs import need_program
 from plainmoment.runs import need_moment, need_run
 
@@ -219,6 +218,11 @@ def _is_menu(program, looks, value):
     return len(set(value)) == len(value) and all([spot in come and spot not in looks for spot in value])
 
 
+def _is_bounded(steps, looks, most):
+    bound = _bound_within(steps, looks)
+    return bound is not None and bound <= most
+
+
 def least_looks(program, looks, menu, most):
     """The list of the least parts of a menu that, with the looks, have a bound of at most so much."""
     _need_both(program, looks)
@@ -227,13 +231,4 @@ def least_looks(program, looks, menu, most):
     if not is_number(most) or most < 0:
         raise NoCount(most)
     steps = _steps_within(program)
-    among = list(menu)
-    least = []
-    for size in range(len(among) + 1):
-        for part in combinations(among, size):
-            if any([all([spot in part for spot in other]) for other in least]):
-                continue
-            bound = _bound_within(steps, list(looks) + list(part))
-            if bound is not None and bound <= most:
-                least.append(part)
-    return least
+    return least_parts(menu, lambda part: _is_bounded(steps, list(looks) + list(part), most))

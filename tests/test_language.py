@@ -10,7 +10,7 @@ FOLDER = pathlib.Path(__file__).resolve().parent.parent / "plainmoment"
 NODES = set("""Module Expr Constant FunctionDef arguments arg ClassDef ImportFrom alias Assign AugAssign Return If While
 For Break Continue Pass Raise Call Attribute Name Subscript Slice Tuple List Dict Set ListComp DictComp SetComp
 comprehension BoolOp And Or BinOp Add Sub Mult Mod FloorDiv UnaryOp Not USub Compare Eq NotEq Lt LtE Gt GtE Is IsNot In
-NotIn IfExp Load Store Starred JoinedStr FormattedValue keyword Try ExceptHandler With withitem""".split())
+NotIn IfExp Load Store Starred JoinedStr FormattedValue keyword Try ExceptHandler With withitem Lambda""".split())
 
 BUILTINS = set("""len range enumerate zip min max sum abs sorted reversed int str bool list tuple dict set isinstance
 ord repr any all divmod ValueError OverflowError staticmethod property""".split())
